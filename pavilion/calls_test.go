@@ -1,0 +1,196 @@
+package pavilion_test
+
+import (
+	"math"
+	"reflect"
+	"strings"
+	"sync"
+	"testing"
+
+	"pavilion/api"
+	"pavilion/pavilion"
+)
+
+// someNumbers: the ends of the kinds of numbers, and what lies near the bounds.
+func someNumbers() []int {
+	return []int{math.MinInt, math.MinInt32, -65536, -1, 0, 1, 2, 3, 4, 5, 6, 7, 8, 255, 256, 65535, 65536, math.MaxInt32, 1 << 32, math.MaxInt}
+}
+
+// someTexts: texts of any bytes and of many lengths.
+func someTexts() []string {
+	l := []string{"", "\x00", "p", "a\x00b", "\xff\xfe", "Zoë", "p\x01\xff", "p\x06\x00\xfd\xea\x16\xc4"}
+	for _, size := range []int{7, 8, 9, 16, 17, 255, 256, 2001, 1 << 17} {
+		l = append(l, strings.Repeat("p", size), strings.Repeat("\xff", size))
+	}
+	return l
+}
+
+// someLists: lists of writes, nil and long ones too.
+func someLists() [][]api.Write {
+	l := [][]api.Write{nil, {}, make([]api.Write, 7), make([]api.Write, 1<<17)}
+	for _, s := range someTexts() {
+		l = append(l, []api.Write{{Key: s, Value: s}}, []api.Write{{Key: "a", Value: s, Dead: true}, {Key: s}})
+	}
+	return l
+}
+
+// TestCallsEnd: a panic, or a call without an end, fails here.
+func TestCallsEnd(t *testing.T) {
+	for _, s := range someTexts() {
+		for _, n := range someNumbers() {
+			if shard, e := pavilion.Shard(s, n); e != api.OK && shard != 0 || shard < 0 || shard >= api.MaxShards {
+				t.Errorf("P1: Shard(%.9q, %d) = %d, %d", s, n, shard, e)
+			}
+		}
+		if v := pavilion.Sum(s); v < 0 || v > math.MaxUint32 {
+			t.Errorf("P4: Sum(%.9q) = %d", s, v)
+		}
+		if l, n := pavilion.Scan(s); n < 0 || n > len(s) || (n == 0) != (len(l) == 0) {
+			t.Errorf("P1: Scan(%.9q) = %d records, %d", s, len(l), n)
+		}
+	}
+	for _, n := range someNumbers() {
+		for _, w := range someLists() {
+			for _, r := range []api.Record{{Kind: n, Time: 1, Writes: w}, {Kind: api.One, Time: n, Writes: w}, {Kind: api.Image, Time: n, Generation: n, Writes: w}} {
+				if s, e := pavilion.Encode(r); (e != api.OK) != (s == "") {
+					t.Errorf("P1: Encode(%d, %d, %d, ..) = %x, %d", r.Kind, r.Time, r.Generation, s, e)
+				}
+			}
+		}
+	}
+}
+
+// TestTheFirstErrorIsTold: of several, the one that is named first.
+func TestTheFirstErrorIsTold(t *testing.T) {
+	for _, n := range []int{math.MinInt, 0, 5} {
+		for _, key := range []string{"", "123456789"} {
+			if v, e := pavilion.Shard(key, n); v != 0 || e != api.ErrArg {
+				t.Errorf("P1: Shard(%q, %d) = %d, %d, want 0, ErrArg", key, n, v, e)
+			}
+		}
+	}
+}
+
+func TestAllCallsWithNoDisk(t *testing.T) {
+	for _, n := range someNumbers() {
+		if s, _ := pavilion.Open(nil, api.Config{Shards: n, Last: n}); s != nil {
+			t.Errorf("P1: Open without a disk, %d, is a store", n)
+		}
+	}
+}
+
+func TestLongScan(t *testing.T) {
+	const many = 20000
+	one := spell(api.Record{Kind: api.One, Time: 1, Writes: longest()})
+	s := strings.Repeat(one, many)
+	if l, n := pavilion.Scan(s + "p"); len(l) != many || n != len(s) {
+		t.Errorf("P1: Scan of a long text = %d records, %d", len(l), n)
+	}
+}
+
+func TestNothingHandedInIsChanged(t *testing.T) {
+	for _, dead := range []bool{false, true} {
+		room := []api.Write{{Key: "a", Value: "x"}, {Key: "b", Value: "y"}, {Key: "spare"}, {Key: "room", Dead: true}}
+		if dead {
+			room[1] = api.Write{Key: "b", Dead: true}
+		}
+		before := append([]api.Write(nil), room...)
+		for kind := range 8 {
+			for size := range len(room) {
+				pavilion.Encode(api.Record{Kind: kind, Time: 1, Writes: room[:size]})
+			}
+		}
+		if !reflect.DeepEqual(room, before) {
+			t.Errorf("P2: Encode wrote into what stands behind its list: %v", room)
+		}
+	}
+	wrong := []api.Write{{Key: "b"}, {Key: "a"}, {Key: "a"}}
+	pavilion.Encode(api.Record{Kind: api.One, Time: 1, Writes: wrong})
+	if wrong[0].Key != "b" || wrong[1].Key != "a" {
+		t.Errorf("P2: Encode sorted what it was handed: %v", wrong)
+	}
+}
+
+func TestNothingHandedInIsKept(t *testing.T) {
+	w := []api.Write{{Key: "a", Value: "x"}}
+	r := api.Record{Kind: api.One, Time: 1, Writes: w}
+	first, _ := pavilion.Encode(r)
+	want := strings.Clone(first)
+	w[0] = api.Write{Key: "b", Dead: true}
+	if first != want {
+		t.Errorf("P2: the frame hangs on the list behind the call")
+	}
+	if second, _ := pavilion.Encode(r); second != spell(r) {
+		t.Errorf("P2: the next frame is the last one's: %x", second)
+	}
+}
+
+// scribble writes into all of a list of records, its spare room and its lists.
+func scribble(l []api.Record) {
+	l = l[:cap(l)]
+	for i := range l {
+		w := l[i].Writes[:cap(l[i].Writes)]
+		for k := range w {
+			w[k] = api.Write{Key: "scribble", Dead: true, Value: "scribble"}
+		}
+		l[i] = api.Record{Kind: -1, Time: -1, Generation: -1}
+	}
+}
+
+func TestListsThatComeOutAreTheCallers(t *testing.T) {
+	all := edgeText()
+	first, _ := pavilion.Scan(all)
+	second, _ := pavilion.Scan(all)
+	scribble(first)
+	if !sameRecords(second, edgeRecords()) {
+		t.Errorf("P2: two answers share memory")
+	}
+	if third, n := pavilion.Scan(all); n != len(all) || !sameRecords(third, edgeRecords()) {
+		t.Errorf("P2: an answer hangs on what was done to an earlier one")
+	}
+}
+
+// TestListsOfOneAnswerShareNothing: appending to each list leaves all others as they were.
+func TestListsOfOneAnswerShareNothing(t *testing.T) {
+	all := edgeText()
+	l, _ := pavilion.Scan(all)
+	for i := range l {
+		w := l[i].Writes
+		for range 8 {
+			w = append(w, api.Write{Key: "behind"})
+		}
+		spare := l[i].Writes[len(l[i].Writes):cap(l[i].Writes)]
+		for k := range spare {
+			spare[k] = api.Write{Key: "spare"}
+		}
+	}
+	if !sameRecords(l, edgeRecords()) {
+		t.Errorf("P2: the lists of one answer share memory")
+	}
+}
+
+func TestAnswersAreAlwaysTheSame(t *testing.T) {
+	all := edgeText()
+	var wait sync.WaitGroup
+	for range 8 {
+		wait.Add(1)
+		go func() {
+			defer wait.Done()
+			for range 20 {
+				l, n := pavilion.Scan(all)
+				if n != len(all) || !sameRecords(l, edgeRecords()) {
+					t.Error("P2: Scan beside others tells something else")
+				}
+				for _, r := range l {
+					if s, e := pavilion.Encode(r); s != spell(r) || e != api.OK {
+						t.Error("P2: Encode beside others tells something else")
+					}
+				}
+				if v, e := pavilion.Shard("ab", 4); v != 1 || e != api.OK || pavilion.Sum("123456789") != 0xcbf43926 {
+					t.Error("P2: Shard or Sum beside others tells something else")
+				}
+			}
+		}()
+	}
+	wait.Wait()
+}
