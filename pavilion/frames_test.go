@@ -385,12 +385,12 @@ func holdAgainst(t *testing.T, kind int, payload string) {
 	l, n := pavilion.Scan(s)
 	if !sound(kind, payload) {
 		if len(l) != 0 || n != 0 {
-			t.Errorf("P6: Scan(%x) = %v, %d, want none", s, l, n)
+			t.Fatalf("P6: Scan(%x) = %v, %d, want none", s, l, n)
 		}
 		return
 	}
 	if len(l) != 1 || n != len(s) || spell(l[0]) != s {
-		t.Errorf("P6: Scan(%x) = %v, %d, want its record", s, l, n)
+		t.Fatalf("P6: Scan(%x) = %v, %d, want its record", s, l, n)
 	}
 }
 
