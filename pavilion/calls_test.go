@@ -6,6 +6,7 @@ import (
 	"strings"
 	"sync"
 	"testing"
+	"unsafe"
 
 	"pavilion/api"
 	"pavilion/pavilion"
@@ -71,7 +72,43 @@ func TestTheFirstErrorIsTold(t *testing.T) {
 	}
 }
 
+// callDisk makes each call of a disk that answers once.
+func callDisk(t *testing.T, d *pavilion.Disk, f, n int, s string) []api.Errno {
+	t.Helper()
+	text, e := d.Read(f)
+	if e != api.OK && text != "" {
+		t.Errorf("P1: Read(%d) = %.9q, %d", f, text, e)
+	}
+	return []api.Errno{d.Append(f, s), d.Sync(f), d.Cut(f, n), e, d.Trouble(f, n)}
+}
+
+func TestDiskCallsEnd(t *testing.T) {
+	d := pavilion.NewDisk()
+	for _, f := range someNumbers() {
+		for _, n := range someNumbers() {
+			for _, s := range someTexts() {
+				callDisk(t, d, f, n, s)
+				d.Crash(n, s)
+				if n < 9 {
+					callDisk(t, d, f, -n, s)
+				}
+			}
+		}
+	}
+}
+
 func TestAllCallsWithNoDisk(t *testing.T) {
+	for _, f := range someNumbers() {
+		for _, n := range someNumbers() {
+			for i, e := range callDisk(t, nil, f, n, "text") {
+				if e != api.ErrFile {
+					t.Errorf("P1: call %d of no disk, with %d and %d, is %d, want ErrFile: it has no files", i, f, n, e)
+				}
+			}
+			var none *pavilion.Disk
+			none.Crash(n, "junk")
+		}
+	}
 	for _, n := range someNumbers() {
 		if s, _ := pavilion.Open(nil, api.Config{Shards: n, Last: n}); s != nil {
 			t.Errorf("P1: Open without a disk, %d, is a store", n)
@@ -166,6 +203,74 @@ func TestListsOfOneAnswerShareNothing(t *testing.T) {
 	}
 	if !sameRecords(l, edgeRecords()) {
 		t.Errorf("P2: the lists of one answer share memory")
+	}
+}
+
+// TestTextsThatAreHandedInAreNotKept: the bytes behind a text change under the disk.
+func TestTextsThatAreHandedInAreNotKept(t *testing.T) {
+	d := pavilion.NewDisk()
+	behind := []byte("abcdef")
+	s := unsafe.String(&behind[0], len(behind))
+	wants(t, "P7: Append", d.Append(0, s), api.OK)
+	wants(t, "P7: Append", d.Append(1, "loose"), api.OK)
+	d.Crash(0, s)
+	wants(t, "P7: Append", d.Append(0, s), api.OK)
+	copy(behind, "XXXXXX")
+	holds(t, d, 0, "abcdefabcdef")
+	holds(t, d, 1, "abcde")
+}
+
+// TestWhatWasReadStays: an answer does not hang on what is done to the disk behind it.
+func TestWhatWasReadStays(t *testing.T) {
+	d := diskWith(t, 0, "abc", "def")
+	first := read(t, d, 0)
+	wants(t, "P7: Cut", d.Cut(0, 1), api.OK)
+	wants(t, "P7: Append", d.Append(0, "XY"), api.OK)
+	second := read(t, d, 0)
+	d.Crash(0, "JUNK")
+	third := read(t, d, 0)
+	wants(t, "P7: Cut", d.Cut(0, 0), api.OK)
+	wants(t, "P7: Append", d.Append(0, "ZZZZZZ"), api.OK)
+	if first != "abcdef" || second != "aXY" || third != "aJU" {
+		t.Errorf("P2: what was read has become %q, %q, %q", first, second, third)
+	}
+}
+
+func TestDisksHaveNothingToDoWithOneAnother(t *testing.T) {
+	one, two := diskWith(t, 0, "ab", "cd"), diskWith(t, 0, "AB", "CD")
+	wants(t, "P8: Trouble", one.Trouble(0, 1), api.OK)
+	wants(t, "P7: Sync of the other disk", two.Sync(0), api.OK)
+	wants(t, "P7: Append to the other disk", two.Append(0, "EF"), api.OK)
+	two.Crash(0, "J")
+	wants(t, "P8: Sync", one.Sync(0), api.ErrDevice)
+	holds(t, one, 0, "abcd")
+	holds(t, two, 0, "ABCDJ")
+	wants(t, "P7: Cut", one.Cut(0, 0), api.OK)
+	holds(t, two, 0, "ABCDJ")
+	holds(t, pavilion.NewDisk(), 0, "")
+}
+
+// TestFilesBesideOneAnother: each file by a goroutine of its own; the race detector sees more here.
+func TestFilesBesideOneAnother(t *testing.T) {
+	d := pavilion.NewDisk()
+	for f := range api.Files {
+		wants(t, "P8: Trouble", d.Trouble(f, 2*f+1), api.OK)
+	}
+	var outcome [api.Files]api.Errno
+	var wait sync.WaitGroup
+	for f := range api.Files {
+		wait.Go(func() {
+			for range 10 {
+				outcome[f] = max(outcome[f], d.Append(f, "ab"), d.Sync(f))
+			}
+		})
+	}
+	wait.Wait()
+	d.Crash(0, "")
+	for f := range api.Files {
+		wants(t, "P2: the outcome of a file beside others", outcome[f], api.ErrDevice)
+		// The odd turns are Appends, so one of them has failed in each file.
+		holds(t, d, f, strings.Repeat("ab", 9))
 	}
 }
 

@@ -3,6 +3,7 @@ package pavilion
 
 import (
 	"pavilion/api"
+	"pavilion/disk"
 	"pavilion/frame"
 	"pavilion/keys"
 )
@@ -20,28 +21,36 @@ func Encode(r api.Record) (string, api.Errno) { return frame.Encode(r) }
 func Scan(s string) ([]api.Record, int) { return frame.Scan(s) }
 
 // Disk is files of bytes.
-type Disk struct{}
+type Disk struct{ inner disk.Disk }
 
 // NewDisk makes a disk (P7).
-func NewDisk() *Disk { return nil }
+func NewDisk() *Disk { return new(Disk) }
+
+// files is nil without a disk, as a field of nil must not be asked for.
+func (d *Disk) files() *disk.Disk {
+	if d == nil {
+		return nil
+	}
+	return &d.inner
+}
 
 // Append lays bytes behind those of a file (P7).
-func (d *Disk) Append(f int, s string) api.Errno { return api.OK }
+func (d *Disk) Append(f int, s string) api.Errno { return d.files().Append(f, s) }
 
 // Sync makes a file's bytes lasting (P7).
-func (d *Disk) Sync(f int) api.Errno { return api.OK }
+func (d *Disk) Sync(f int) api.Errno { return d.files().Sync(f) }
 
 // Cut shortens a file (P7).
-func (d *Disk) Cut(f int, n int) api.Errno { return api.OK }
+func (d *Disk) Cut(f int, n int) api.Errno { return d.files().Cut(f, n) }
 
 // Read tells a file's bytes (P7).
-func (d *Disk) Read(f int) (string, api.Errno) { return "", api.OK }
+func (d *Disk) Read(f int) (string, api.Errno) { return d.files().Read(f) }
 
 // Trouble lets a later turn of a file fail (P8).
-func (d *Disk) Trouble(f int, k int) api.Errno { return api.OK }
+func (d *Disk) Trouble(f int, k int) api.Errno { return d.files().Trouble(f, k) }
 
 // Crash loses what does not last (P8).
-func (d *Disk) Crash(keep int, junk string) {}
+func (d *Disk) Crash(keep int, junk string) { d.files().Crash(keep, junk) }
 
 // Store is keys with their versions, over a disk.
 type Store struct{}
