@@ -5,8 +5,18 @@ import "pavilion/api"
 
 // Disk holds each file for itself, so that several may be worked on beside one another. As it begins, all are empty.
 type Disk struct {
-	files [api.Files]file
+	files  [api.Files]file
+	holder int // the number of the last one who took the disk; a crash takes it too
 }
+
+// Take gives the disk to a new holder, and tells the number by which it is known: whoever held the disk ahead of that does so no longer.
+func (d *Disk) Take() int {
+	d.holder++
+	return d.holder
+}
+
+// IsHeldBy tells whether the holder of that number holds the disk still.
+func (d *Disk) IsHeldBy(holder int) bool { return d.holder == holder }
 
 // Append lays bytes behind those of a file (P7).
 func (d *Disk) Append(f int, s string) api.Errno {
@@ -60,11 +70,13 @@ func (d *Disk) Trouble(f int, k int) api.Errno {
 
 // Crash loses what does not last (P8).
 func (d *Disk) Crash(keep int, junk string) {
-	for f := range api.Files {
-		if x := d.find(f); x != nil {
-			x.crash(keep, junk)
-		}
+	if d == nil {
+		return
 	}
+	for f := range d.files {
+		d.files[f].crash(keep, junk)
+	}
+	d.Take()
 }
 
 // find tells nil where there is no such file; without a disk there is none.

@@ -3,6 +3,7 @@ package pavilion_test
 import (
 	"math"
 	"reflect"
+	"slices"
 	"strings"
 	"sync"
 	"testing"
@@ -110,9 +111,56 @@ func TestAllCallsWithNoDisk(t *testing.T) {
 		}
 	}
 	for _, n := range someNumbers() {
-		if s, _ := pavilion.Open(nil, api.Config{Shards: n, Last: n}); s != nil {
-			t.Errorf("P1: Open without a disk, %d, is a store", n)
+		if s, e := pavilion.Open(nil, api.Config{Shards: n, Last: n}); s != nil || e != api.ErrArg {
+			t.Errorf("P9: Open without a disk, %d, = %v, %d, want nil, ErrArg", n, s, e)
 		}
+	}
+}
+
+func TestOpenEnds(t *testing.T) {
+	for _, shards := range someNumbers() {
+		for _, last := range someNumbers() {
+			s, e := pavilion.Open(pavilion.NewDisk(), api.Config{Shards: shards, Last: last})
+			if (s == nil) != (e != api.OK) {
+				t.Errorf("P1: Open to %d, %d = %v, %d", shards, last, s, e)
+			}
+		}
+	}
+	for _, text := range someTexts() {
+		d := pavilion.NewDisk()
+		for f := range api.Files {
+			d.Append(f, text)
+		}
+		opened(t, d, 4)
+	}
+}
+
+func TestStoreCallsEnd(t *testing.T) {
+	s := opened(t, pavilion.NewDisk(), 4)
+	for _, n := range someNumbers() {
+		for _, most := range someNumbers() {
+			for _, text := range someTexts() {
+				for call, e := range callStore(t, s, n, most, text) {
+					if e == api.ErrOver || e == api.ErrDevice {
+						t.Fatalf("P1: %s of %d, %d, %.9q = %d", call, n, most, text, e)
+					}
+				}
+				s.Scan(n, text, "", most)
+			}
+		}
+		s.Get(n, nil...)
+		s.Put(n, nil...)
+		s.Delete(n, nil...)
+		s.Get(n, someTexts()...)
+		s.Delete(n, someTexts()...)
+	}
+}
+
+// TestStoreCallsWithNoStore: nothing is promised here but that it is no panic.
+func TestStoreCallsWithNoStore(t *testing.T) {
+	for _, s := range []*pavilion.Store{nil, {}} {
+		isOver(t, "no Open", s)
+		isAt(t, s, 0, 0, 0, 0, 0)
 	}
 }
 
@@ -218,6 +266,98 @@ func TestTextsThatAreHandedInAreNotKept(t *testing.T) {
 	copy(behind, "XXXXXX")
 	holds(t, d, 0, "abcdefabcdef")
 	holds(t, d, 1, "abcde")
+}
+
+// TestTextsThatAreWrittenAreNotKept: the bytes behind keys and values change under the store.
+func TestTextsThatAreWrittenAreNotKept(t *testing.T) {
+	d := pavilion.NewDisk()
+	s := opened(t, d, 1)
+	behind := []byte("keyvaluedead")
+	text := unsafe.String(&behind[0], len(behind))
+	does(t, s, "dead=1", 1)
+	n := begun(t, s)
+	wants(t, "P12: Put", s.Put(n, api.Pair{Key: text[:3], Value: text[3:8]}), api.OK)
+	wants(t, "P12: Delete", s.Delete(n, text[8:]), api.OK)
+	s.Get(n, text[:3])
+	s.Scan(n, text[:3], text[3:], 9)
+	copy(behind, "XXXXXXXXXXXX")
+	sees(t, s, n, "key=value")
+	commits(t, s, n, 2)
+	has(t, s, "key=value")
+	holds(t, d, 0, record(api.One, 1, "dead=1")+record(api.One, 2, "dead- key=value"))
+	// A key that is written again, by another text.
+	n = begun(t, s)
+	writes(t, s, n, "key=1")
+	copy(behind, "keyvalue")
+	wants(t, "P12: Put", s.Put(n, api.Pair{Key: text[:3], Value: text[3:8]}), api.OK)
+	copy(behind, "XXXXXXXX")
+	commits(t, s, n, 3)
+	has(t, s, "key=value")
+}
+
+// TestListsThatAreWrittenStay: neither they nor their spare room are written into, and what is done to them later is not seen.
+func TestListsThatAreWrittenStay(t *testing.T) {
+	s := opened(t, pavilion.NewDisk(), 2)
+	n := begun(t, s)
+	room := pairs("b=1", "a=1", "b=2", "spare=1", "room=1")
+	names := []string{"c", "b", "c", "spare", "room"}
+	keptRoom, keptNames := slices.Clone(room), slices.Clone(names)
+	wants(t, "P12: Put", s.Put(n, room[:3]...), api.OK)
+	wants(t, "P12: Delete", s.Delete(n, names[:2]...), api.OK)
+	s.Get(n, names[:3]...)
+	if !slices.Equal(room, keptRoom) || !slices.Equal(names, keptNames) {
+		t.Errorf("P2: lists that were handed in have become %v, %v", room, names)
+	}
+	for i := range room {
+		room[i] = api.Pair{Key: "z", Value: "no"}
+		names[i] = "a"
+	}
+	sees(t, s, n, "a=1")
+	commits(t, s, n, 1)
+	isAt(t, s, 1, 2, 1, 0, 3)
+}
+
+// TestListsOfAStoreAreTheCallers: whatever is done to an answer, its spare room too, the next one is right.
+func TestListsOfAStoreAreTheCallers(t *testing.T) {
+	s := opened(t, pavilion.NewDisk(), 2)
+	does(t, s, "a=1 b=1 c=1", 1)
+	n := begun(t, s)
+	writes(t, s, n, "b=2 d=2")
+	kept, _ := s.Scan(n, "", behindAll, 9)
+	for most := range 6 {
+		l, _ := s.Scan(n, "", behindAll, most)
+		got, _ := s.Get(n, []string{"a", "b", "c", "d", "e"}[:most]...)
+		for i := range l[:cap(l)] {
+			l[:cap(l)][i] = api.Pair{Key: "z", Value: "no"}
+		}
+		for i := range got[:cap(got)] {
+			got[:cap(got)][i] = api.Found{There: true, Value: "no"}
+		}
+		sees(t, s, n, "a=1 b=2 c=1 d=2")
+		if l, _ := s.Get(n, "a", "b", "e"); !slices.Equal(l, []api.Found{{There: true, Value: "1"}, {There: true, Value: "2"}, {}}) {
+			t.Errorf("P2: Get hangs on what was done to an earlier answer: %v", l)
+		}
+	}
+	if told(kept) != "a=1 b=2 c=1 d=2" {
+		t.Errorf("P2: two answers share memory: %v", kept)
+	}
+	commits(t, s, n, 2)
+	has(t, s, "a=1 b=2 c=1 d=2")
+}
+
+// TestStoresHaveNothingToDoWithOneAnother: but by their disk.
+func TestStoresHaveNothingToDoWithOneAnother(t *testing.T) {
+	one, two := pavilion.NewDisk(), pavilion.NewDisk()
+	s, x := opened(t, one, 2), opened(t, two, 2)
+	does(t, s, "a=1 b=1", 1)
+	has(t, x, "")
+	writes(t, x, begun(t, x), "a=2")
+	isAt(t, s, 1, 2, 1, 0, 2)
+	wants(t, "P8: Trouble", one.Trouble(1, 1), api.OK)
+	commits(t, x, 1, 1)
+	one.Crash(0, "")
+	isOver(t, "a crash", s)
+	has(t, x, "a=2")
 }
 
 // TestWhatWasReadStays: an answer does not hang on what is done to the disk behind it.

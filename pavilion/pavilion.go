@@ -6,6 +6,7 @@ import (
 	"pavilion/disk"
 	"pavilion/frame"
 	"pavilion/keys"
+	"pavilion/store"
 )
 
 // Shard tells to which log a key belongs (P3).
@@ -53,39 +54,55 @@ func (d *Disk) Trouble(f int, k int) api.Errno { return d.files().Trouble(f, k) 
 func (d *Disk) Crash(keep int, junk string) { d.files().Crash(keep, junk) }
 
 // Store is keys with their versions, over a disk.
-type Store struct{}
+type Store struct{ inner *store.Store }
 
 // Open makes a store of what a disk holds (P9).
-func Open(d *Disk, c api.Config) (*Store, api.Errno) { return nil, api.OK }
+func Open(d *Disk, c api.Config) (*Store, api.Errno) {
+	inner, e := store.Open(d.files(), c)
+	if e != api.OK {
+		return nil, e
+	}
+	return &Store{inner}, api.OK
+}
+
+// work is nil without a store, as a field of nil must not be asked for.
+func (s *Store) work() *store.Store {
+	if s == nil {
+		return nil
+	}
+	return s.inner
+}
 
 // Begin begins a transaction (P10).
-func (s *Store) Begin() (int, api.Errno) { return 0, api.OK }
+func (s *Store) Begin() (int, api.Errno) { return s.work().Begin() }
 
 // Get tells what there is of keys (P11).
-func (s *Store) Get(t int, keys ...string) ([]api.Found, api.Errno) { return nil, api.OK }
+func (s *Store) Get(t int, keys ...string) ([]api.Found, api.Errno) {
+	return s.work().Get(t, keys...)
+}
 
 // Scan tells keys in their order (P11).
 func (s *Store) Scan(t int, from string, to string, most int) ([]api.Pair, api.Errno) {
-	return nil, api.OK
+	return s.work().Scan(t, from, to, most)
 }
 
 // Put writes keys (P12).
-func (s *Store) Put(t int, pairs ...api.Pair) api.Errno { return api.OK }
+func (s *Store) Put(t int, pairs ...api.Pair) api.Errno { return s.work().Put(t, pairs...) }
 
 // Delete deletes keys (P12).
-func (s *Store) Delete(t int, keys ...string) api.Errno { return api.OK }
+func (s *Store) Delete(t int, keys ...string) api.Errno { return s.work().Delete(t, keys...) }
 
 // Abort ends a transaction (P13).
-func (s *Store) Abort(t int) api.Errno { return api.OK }
+func (s *Store) Abort(t int) api.Errno { return s.work().Abort(t) }
 
 // Commit ends a transaction, and does what it wrote (P13, P14).
-func (s *Store) Commit(t int) (int, api.Errno) { return 0, api.OK }
+func (s *Store) Commit(t int) (int, api.Errno) { return s.work().Commit(t) }
 
 // Checkpoint writes an image, and empties the logs (P15).
-func (s *Store) Checkpoint() api.Errno { return api.OK }
+func (s *Store) Checkpoint() api.Errno { return s.work().Stands() }
 
 // Prune forgets versions that nobody can see (P16).
-func (s *Store) Prune() (int, api.Errno) { return 0, api.OK }
+func (s *Store) Prune() (int, api.Errno) { return 0, s.work().Stands() }
 
 // Status tells how the store is (P17).
-func (s *Store) Status() api.Status { return api.Status{} }
+func (s *Store) Status() api.Status { return s.work().Status() }
