@@ -345,6 +345,62 @@ func TestListsOfAStoreAreTheCallers(t *testing.T) {
 	has(t, s, "a=1 b=2 c=1 d=2")
 }
 
+// TestAnswersStayBehindForgetting: lists that came out are as they were, and what is written into them comes into no image.
+func TestAnswersStayBehindForgetting(t *testing.T) {
+	d := pavilion.NewDisk()
+	s := opened(t, d, 2)
+	does(t, s, "a=1 b=1 c=1", 1)
+	n := begun(t, s)
+	l, _ := s.Scan(n, "", behindAll, 9)
+	found, _ := s.Get(n, "a", "b", "c")
+	spoilt, _ := s.Scan(n, "", behindAll, 9)
+	wants(t, "P13: Abort", s.Abort(n), api.OK)
+	does(t, s, "a=2 b-", 2)
+	for i := range spoilt {
+		spoilt[i] = api.Pair{Key: "z", Value: "no"}
+	}
+	prunes(t, s, 3)
+	checkpoints(t, s)
+	does(t, s, "a=3 b=3", 3)
+	if told(l) != "a=1 b=1 c=1" || !slices.Equal(found, []api.Found{{There: true, Value: "1"}, {There: true, Value: "1"}, {There: true, Value: "1"}}) {
+		t.Errorf("P2: answers have become %v, %v behind Prune", l, found)
+	}
+	holds(t, d, 5, imageText(2, 1, record(api.Item, 2, "a=2"), record(api.Item, 1, "c=1")))
+}
+
+// TestTextsThatAreWrittenComeIntoImages: as they were when they were handed in.
+func TestTextsThatAreWrittenComeIntoImages(t *testing.T) {
+	d := pavilion.NewDisk()
+	s := opened(t, d, 1)
+	behind := []byte("keyvalue")
+	text := unsafe.String(&behind[0], len(behind))
+	n := begun(t, s)
+	wants(t, "P12: Put", s.Put(n, api.Pair{Key: text[:3], Value: text[3:]}), api.OK)
+	commits(t, s, n, 1)
+	copy(behind, "XXXXXXXX")
+	checkpoints(t, s)
+	holds(t, d, 5, imageText(1, 1, record(api.Item, 1, "key=value")))
+	prunes(t, s, 0)
+	has(t, s, "key=value")
+}
+
+// TestImagesAreAlwaysTheSame: the keys rise, however the store holds them.
+func TestImagesAreAlwaysTheSame(t *testing.T) {
+	var items []string
+	for b := byte('a'); b <= 'x'; b++ {
+		items = append(items, record(api.Item, 1+int(b-'a')/api.MaxWrites, string(b)+"=1"))
+	}
+	for range 50 {
+		d := pavilion.NewDisk()
+		s := opened(t, d, 4)
+		for time, text := range []string{"f=1 a=1 b=1 e=1 c=1 d=1", "l=1 k=1 j=1 i=1 h=1 g=1", "m=1 n=1 o=1 p=1 q=1 r=1", "x=1 t=1 v=1 u=1 w=1 s=1"} {
+			does(t, s, text, time+1)
+		}
+		checkpoints(t, s)
+		holdsAll(t, "P2: images", d, [api.Files]string{5: imageText(4, 1, items...)})
+	}
+}
+
 // TestStoresHaveNothingToDoWithOneAnother: but by their disk.
 func TestStoresHaveNothingToDoWithOneAnother(t *testing.T) {
 	one, two := pavilion.NewDisk(), pavilion.NewDisk()
@@ -355,9 +411,15 @@ func TestStoresHaveNothingToDoWithOneAnother(t *testing.T) {
 	isAt(t, s, 1, 2, 1, 0, 2)
 	wants(t, "P8: Trouble", one.Trouble(1, 1), api.OK)
 	commits(t, x, 1, 1)
+	checkpoints(t, x)
+	does(t, x, "a=3", 2)
+	prunes(t, x, 1)
+	holdsAll(t, "P2: an image of another disk", two, [api.Files]string{1: record(api.One, 2, "a=3"), 5: imageText(1, 1, record(api.Item, 1, "a=2"))})
+	isAt(t, s, 1, 2, 1, 0, 2)
+	wants(t, "P15: Checkpoint with a turn that fails", s.Checkpoint(), api.ErrDevice)
+	isOver(t, "a turn that failed", s)
 	one.Crash(0, "")
-	isOver(t, "a crash", s)
-	has(t, x, "a=2")
+	has(t, x, "a=3")
 }
 
 // TestWhatWasReadStays: an answer does not hang on what is done to the disk behind it.

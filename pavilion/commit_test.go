@@ -440,20 +440,25 @@ func TestFillUp(t *testing.T) {
 	}
 }
 
-// TestFillUpTheBook: the logs have room still, as each has but half of the parts.
-func TestFillUpTheBook(t *testing.T) {
-	d := pavilion.NewDisk()
-	s := opened(t, d, 4)
+// fillBook commits until the book is full, while the logs have room still, as each has but half of the parts. It tells a text that needs the book, and the next time.
+func fillBook(t *testing.T, s *pavilion.Store) (string, int) {
+	t.Helper()
 	low, _ := spread(t, 4, 0, 1)
 	high, _ := spread(t, 4, 2, 3)
 	full := api.MaxFile / len(record(api.Done, 1, ""))
 	for i := range full {
 		does(t, s, []string{low, high}[i%2], i+1)
 	}
+	return low, full + 1
+}
+
+func TestFillUpTheBook(t *testing.T) {
+	s := opened(t, pavilion.NewDisk(), 4)
+	text, next := fillBook(t, s)
 	n := begun(t, s)
-	writes(t, s, n, low)
+	writes(t, s, n, text)
 	refuses(t, s, n, api.ErrFull)
-	does(t, s, keyOf(t, 0, 4)+"=1", full+1)
+	does(t, s, keyOf(t, 0, 4)+"=1", next)
 }
 
 // TestTheSameWhateverRunsBeside: the goroutines of a call leave no trace of their order.
@@ -466,10 +471,7 @@ func TestTheSameWhateverRunsBeside(t *testing.T) {
 			text, _ := spread(t, 4, 0, 1, 2, 3)
 			does(t, s, text, time)
 		}
-		var texts [api.Files]string
-		for f := range api.Files {
-			texts[f] = read(t, d, f)
-		}
+		texts := filesOf(t, d)
 		if i == 0 {
 			first = texts
 		}

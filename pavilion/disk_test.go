@@ -32,6 +32,16 @@ func holds(t *testing.T, d *pavilion.Disk, f int, want string) {
 	}
 }
 
+// filesOf takes a turn of each file.
+func filesOf(t *testing.T, d *pavilion.Disk) [api.Files]string {
+	t.Helper()
+	var texts [api.Files]string
+	for f := range texts {
+		texts[f] = read(t, d, f)
+	}
+	return texts
+}
+
 // lasts loses all that does not last.
 func lasts(t *testing.T, d *pavilion.Disk, f int, want string) {
 	t.Helper()

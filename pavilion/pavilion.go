@@ -99,10 +99,10 @@ func (s *Store) Abort(t int) api.Errno { return s.work().Abort(t) }
 func (s *Store) Commit(t int) (int, api.Errno) { return s.work().Commit(t) }
 
 // Checkpoint writes an image, and empties the logs (P15).
-func (s *Store) Checkpoint() api.Errno { return s.work().Stands() }
+func (s *Store) Checkpoint() api.Errno { return s.work().Checkpoint() }
 
 // Prune forgets versions that nobody can see (P16).
-func (s *Store) Prune() (int, api.Errno) { return 0, s.work().Stands() }
+func (s *Store) Prune() (int, api.Errno) { return s.work().Prune() }
 
 // Status tells how the store is (P17).
 func (s *Store) Status() api.Status { return s.work().Status() }

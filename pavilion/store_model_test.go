@@ -1,6 +1,7 @@
 package pavilion_test
 
 import (
+	"maps"
 	"slices"
 	"strings"
 	"testing"
@@ -27,6 +28,8 @@ type plainStore struct {
 	config api.Config
 	sizes  [api.Files]int
 	list   []plainWrite
+	image  int // the file of the image that counts, and its generation
+	images int
 	last   int
 	next   int
 	begun  int
@@ -80,16 +83,19 @@ func kinds(l []api.Record) string {
 }
 
 func (s *plainStore) recall(records [api.Files][]api.Record) {
-	time, generation := 0, 0
+	time := 0
 	var items []api.Record
-	for _, l := range [][]api.Record{records[6], records[5]} {
+	s.image = 6
+	for _, f := range []int{6, 5} {
+		l := records[f]
 		shape := kinds(l)
 		if !strings.HasPrefix(shape, "i") || shape != "i"+strings.Repeat("e", max(len(shape), 2)-2)+"w" {
 			continue
 		}
 		// File 5 comes last, and wins if the generations are the same.
-		if l[0].Generation >= generation {
-			time, generation, items = l[0].Time, l[0].Generation, l
+		if l[0].Generation >= s.images {
+			time, items = l[0].Time, l
+			s.image, s.images = f, l[0].Generation
 		}
 	}
 	s.last = time
@@ -327,6 +333,63 @@ func (s *plainStore) lay(texts map[int]string) bool {
 	return good
 }
 
+// newest tells, of each key, the time of its newest version up to a time.
+func (s *plainStore) newest(time int) map[string]int {
+	at := map[string]int{}
+	for _, v := range s.list {
+		if v.time <= time {
+			at[v.Key] = max(at[v.Key], v.time)
+		}
+	}
+	return at
+}
+
+func (s *plainStore) checkpoint() api.Errno {
+	if s.over {
+		return api.ErrOver
+	}
+	if s.images == 65535 {
+		return api.ErrSpent
+	}
+	var items []string
+	at, all := s.newest(s.last), s.sees(&plainOpen{snapshot: s.last})
+	for _, k := range slices.Sorted(maps.Keys(all)) {
+		items = append(items, spell(api.Record{Kind: api.Item, Time: at[k], Writes: []api.Write{{Key: k, Value: all[k]}}}))
+	}
+	text := imageText(s.last, s.images+1, items...)
+	if len(text) > 2000 {
+		return api.ErrFull
+	}
+	f := map[int]int{5: 6, 6: 5}[s.image]
+	s.over = true
+	if s.files[f].cut(0) != api.OK || s.files[f].lay(text) != api.OK || s.files[f].sync() != api.OK {
+		return api.ErrDevice
+	}
+	for g := range 5 {
+		if (g < s.config.Shards || g == 4) && s.files[g].cut(0) != api.OK {
+			return api.ErrDevice
+		}
+		s.sizes[g] = 0
+	}
+	s.over = false
+	s.image = f
+	s.images++
+	return api.OK
+}
+
+func (s *plainStore) prune() (int, api.Errno) {
+	if s.over {
+		return 0, api.ErrOver
+	}
+	before := s.status()
+	at, there := s.newest(before.Water), s.sees(&plainOpen{snapshot: before.Water})
+	s.list = slices.DeleteFunc(s.list, func(v plainWrite) bool {
+		_, lives := there[v.Key]
+		return v.time < at[v.Key] || v.time == at[v.Key] && !lives
+	})
+	return before.Versions - s.status().Versions, api.OK
+}
+
 // pairOfStores is a store and a plain one, each over its own disk, to which the same is done.
 type pairOfStores struct {
 	acts
@@ -392,6 +455,9 @@ func (p *pairOfStores) record(f int) string {
 	item := ""
 	for range p.next() % 3 {
 		item += spell(api.Record{Kind: api.Item, Time: 1 + p.next()%12, Writes: []api.Write{{Key: p.goodKey(), Value: "i"}}})
+	}
+	if p.next() > 240 {
+		generation = 65536 - generation
 	}
 	return imageText(time, generation, item)
 }
@@ -501,6 +567,18 @@ func (p *pairOfStores) writeBoth(t *testing.T, s *pavilion.Store, x *plainStore,
 	wants(t, "P12: Put", s.Put(n, l2...), x.write(n, l))
 }
 
+// tidyBoth makes an image, or forgets.
+func (p *pairOfStores) tidyBoth(t *testing.T, s *pavilion.Store, x *plainStore) {
+	if p.next()%2 == 0 {
+		wants(t, "P15: Checkpoint", s.Checkpoint(), x.checkpoint())
+		return
+	}
+	want, e := x.prune()
+	if n, got := s.Prune(); n != want || got != e {
+		t.Fatalf("P16: Prune() = %d, %d, want %d, %d", n, got, want, e)
+	}
+}
+
 // actOnStores does one act to both, and holds the answers against each other.
 func (p *pairOfStores) actOnStores(t *testing.T) {
 	t.Helper()
@@ -521,6 +599,8 @@ func (p *pairOfStores) actOnStores(t *testing.T) {
 		p.othersWrite(t)
 	case kind == 3:
 		wants(t, "P13: Abort", s.Abort(n), x.abort(n))
+	case kind == 4:
+		p.tidyBoth(t, s, x)
 	case kind < 9:
 		want, e := x.begin()
 		if n, got := s.Begin(); n != want || got != e {

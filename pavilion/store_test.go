@@ -409,16 +409,16 @@ func TestAbort(t *testing.T) {
 	n, other := begun(t, s), begun(t, s)
 	writes(t, s, n, "a=2 b=2")
 	writes(t, s, other, "b=3")
-	before := [2]string{read(t, d, 0), read(t, d, 1)}
+	before := filesOf(t, d)
 	wants(t, "P13: Abort", s.Abort(n), api.OK)
+	if filesOf(t, d) != before {
+		t.Errorf("P13: Abort changed what the disk holds")
+	}
 	for call, e := range callStore(t, s, n, 1, "a") {
 		if call != "Begin" && call != "Prune" && call != "Checkpoint" {
 			wants(t, "P13: behind Abort, ErrNone is asked of "+call+": it", e, api.ErrNone)
 		}
 	}
-	holds(t, d, 0, before[0])
-	holds(t, d, 1, before[1])
-	holds(t, d, api.Book, "")
 	sees(t, s, other, "a=1 b=3")
 	has(t, s, "a=1")
 	for _, n := range []int{-1, n, 99, math.MinInt, math.MaxInt, 1 << 32, other + 1<<32} {

@@ -78,7 +78,7 @@ func (s *Store) look(x *transaction, key string) api.Found {
 	if w, there := x.written(key); there {
 		return api.Found{There: !w.Dead, Value: w.Value}
 	}
-	return s.known.At(key, x.snapshot)
+	return s.known.At(key, x.snapshot).Found
 }
 
 // keysFor tells each key once that the transaction may see, in their order.

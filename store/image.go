@@ -2,26 +2,31 @@ package store
 
 import "pavilion/api"
 
-// image is what stands in place of all that the logs told up to its time. Without a good one, it is all 0.
+// imagePlace is where an image is, and how many images there were up to it.
+type imagePlace struct{ file, generation int }
+
+// next tells where the image comes that follows: in the other of the two files, so that this one stays until that one is whole.
+func (p imagePlace) next() imagePlace {
+	return imagePlace{file: api.Images + (api.Images + 1) - p.file, generation: p.generation + 1}
+}
+
+// image is what stands in place of all that the logs told up to its time.
 type image struct {
-	time, generation int
-	items            []api.Record
+	imagePlace
+	time  int
+	items []api.Record
 }
 
-// newerImage tells which of the images of two files counts: the first, if their generations are the same.
-func newerImage(first, second []api.Record) image {
-	a, b := imageOf(first), imageOf(second)
-	if b.generation > a.generation {
-		return b
+// newestImage tells the image that counts: of two with the same generation the first; without a good one, one in the second file that tells nothing.
+func newestImage(records [api.Files][]api.Record) image {
+	newest := image{imagePlace: imagePlace{file: api.Images + 1}}
+	for f := api.Images; f < api.Files; f++ {
+		l := records[f]
+		if isGood(l) && l[0].Generation > newest.generation {
+			newest = image{imagePlace: imagePlace{file: f, generation: l[0].Generation}, time: l[0].Time, items: l[1 : len(l)-1]}
+		}
 	}
-	return a
-}
-
-func imageOf(l []api.Record) image {
-	if !isGood(l) {
-		return image{}
-	}
-	return image{time: l[0].Time, generation: l[0].Generation, items: l[1 : len(l)-1]}
+	return newest
 }
 
 // isGood tells whether an image was written to its end, and nothing but an image.

@@ -34,7 +34,10 @@ func Open(d *disk.Disk, c api.Config) (*Store, api.Errno) {
 
 // newStore takes the disk from the store that held it, whatever comes of this one.
 func newStore(d *disk.Disk, c api.Config) *Store {
-	return &Store{disk: d, holder: d.Take(), shards: c.Shards, limit: c.Last, known: history.History{}, open: map[int]*transaction{}}
+	return &Store{
+		disk: d, holder: d.Take(), shards: c.Shards, limit: c.Last,
+		sizes: map[int]int{}, known: history.History{}, open: map[int]*transaction{},
+	}
 }
 
 func isConfig(c api.Config) bool {
@@ -76,7 +79,8 @@ func (s *Store) files() []int {
 
 // recall makes known what the records of the files tell.
 func (s *Store) recall(records [api.Files][]api.Record) {
-	from := newerImage(records[api.Images], records[api.Images+1])
+	from := newestImage(records)
+	s.image = from.imagePlace
 	s.last = from.time
 	for _, r := range from.items {
 		s.learn(r)

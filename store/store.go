@@ -16,8 +16,9 @@ type Store struct {
 	holder int  // by which the disk knows who holds it
 	failed bool // a turn has failed in a call of this store
 	shards int
-	limit  int              // the last time that may be given
-	sizes  [logsAndBook]int // how many bytes of each log and the book the store knows of
+	limit  int         // the last time that may be given
+	image  imagePlace  // where the image that counts is
+	sizes  map[int]int // how many bytes of each log and the book the store knows of
 	known  history.History
 	last   int
 	next   int
@@ -25,8 +26,8 @@ type Store struct {
 	open   map[int]*transaction
 }
 
-// Stands tells ErrOver if the store is over; without a store it is the same.
-func (s *Store) Stands() api.Errno {
+// stands tells ErrOver if the store is over; without a store it is the same.
+func (s *Store) stands() api.Errno {
 	if s == nil || s.failed || !s.disk.IsHeldBy(s.holder) {
 		return api.ErrOver
 	}
@@ -35,7 +36,7 @@ func (s *Store) Stands() api.Errno {
 
 // Begin begins a transaction (P10).
 func (s *Store) Begin() (int, api.Errno) {
-	if e := s.Stands(); e != api.OK {
+	if e := s.stands(); e != api.OK {
 		return 0, e
 	}
 	if len(s.open) >= api.MaxOpen {
@@ -56,6 +57,14 @@ func (s *Store) Abort(t int) api.Errno {
 	return api.OK
 }
 
+// Prune forgets versions that nobody can see (P16).
+func (s *Store) Prune() (int, api.Errno) {
+	if e := s.stands(); e != api.OK {
+		return 0, e
+	}
+	return s.known.Prune(s.water()), api.OK
+}
+
 // Status tells how the store is, also when it is over (P17).
 func (s *Store) Status() api.Status {
 	if s == nil {
@@ -74,7 +83,7 @@ func (s *Store) water() int {
 }
 
 func (s *Store) find(t int) (*transaction, api.Errno) {
-	if e := s.Stands(); e != api.OK {
+	if e := s.stands(); e != api.OK {
 		return nil, e
 	}
 	x := s.open[t]
